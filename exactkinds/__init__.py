@@ -1,0 +1,1 @@
+"""Exactkinds: types that are exact about runs."""

@@ -1,0 +1,15 @@
+"""The integers that bound words, tables, programs and texts (point 101)."""
+
+MOST_NAME = 12
+MOST_MAKERS = 5
+MOST_FAMILIES = 4
+MOST_CONSTRUCTORS = 16
+MOST_PARTS = 3
+MOST_NAMES = 4
+MOST_DEEP = 4
+MOST_FUNCTIONS = 12
+MOST_CLAUSES = 12
+MOST_PATTERN = 6
+MOST_BODY = 30
+MOST_TEXT = 6000
+MOST_OPEN = 40

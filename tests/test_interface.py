@@ -1,0 +1,56 @@
+"""The interface: each name in the file under which it stands, with its arguments."""
+
+import importlib
+import inspect
+import unittest
+
+CLASSES = {"errors": ["KindsError", "BadText", "BadTable", "BadProgram", "BadJob"]}
+FUNCTIONS = {
+    "words": {"is_word": ["value"]},
+    "indices": {
+        "is_term": ["makers", "value"],
+        "is_tree": ["makers", "value"],
+        "size": ["term"],
+        "depth": ["term"],
+        "names_of": ["term"],
+        "order": ["makers", "one", "other"],
+        "trees": ["makers", "many"],
+        "put": ["term", "assignment"],
+        "fitted": ["patterns", "terms"],
+        "unified": ["pairs"],
+    },
+    "reading": {"read": ["text"]},
+    "writing": {"write": ["table", "program"]},
+    "tables": {
+        "is_table": ["value"],
+        "check_table": ["value"],
+        "parts_of": ["table", "maker"],
+        "constructor_of": ["table", "word"],
+        "constructors_of": ["table", "family"],
+        "words_of": ["table"],
+    },
+}
+
+
+class Interface(unittest.TestCase):
+
+    def test_classes(self):
+        for file, names in CLASSES.items():
+            module = importlib.import_module(f"exactkinds.{file}")
+            for name in names:
+                found = getattr(module, name)
+                self.assertTrue(inspect.isclass(found), name)
+                self.assertEqual(found.__module__, module.__name__, name)
+
+    def test_functions(self):
+        for file, names in FUNCTIONS.items():
+            module = importlib.import_module(f"exactkinds.{file}")
+            for name, arguments in names.items():
+                found = getattr(module, name)
+                self.assertTrue(inspect.isfunction(found), name)
+                self.assertEqual(found.__module__, module.__name__, name)
+                self.assertEqual(list(inspect.signature(found).parameters), arguments, name)
+
+
+if __name__ == "__main__":
+    unittest.main()
