@@ -1,17 +1,19 @@
 """Index terms and index trees: their form, order, putting, fitting and unifying (points 102 to 107)."""
 
+from exactkinds.sharing import Kept
+
 
 def is_term(makers, value):
     """Return whether any value is an index term over the makers."""
-    return _has_form(dict(makers), value, True)
+    return _has_form(dict(makers), value, True, Kept())
 
 
 def is_tree(makers, value):
     """Return whether any value is an index tree over the makers."""
-    return _has_form(dict(makers), value, False)
+    return _has_form(dict(makers), value, False, Kept())
 
 
-def _has_form(parts_by_word, value, may_have_names):
+def _has_form(parts_by_word, value, may_have_names, kept):
     if isinstance(value, str):
         return may_have_names and value not in parts_by_word
     # The first item is looked up only if it is a string: lists and dicts are no keys.
@@ -19,9 +21,12 @@ def _has_form(parts_by_word, value, may_have_names):
         return False
     if parts_by_word.get(value[0], -1) != len(value) - 1:
         return False
+    if kept.pair_of(value) is not None:
+        return True
     for part in value[1:]:
-        if not _has_form(parts_by_word, part, may_have_names):
+        if not _has_form(parts_by_word, part, may_have_names, kept):
             return False
+    kept.keep(value, True)
     return True
 
 
@@ -91,19 +96,19 @@ def trees(makers, many):
 def _trees_of_size(makers, rows, total):
     found = []
     for word, parts in makers:
-        for row in _part_rows(rows, parts, total - 1):
+        for row in part_rows(rows, parts, total - 1):
             found.append((word, *row))
     return found
 
 
-def _part_rows(rows, parts, total):
+def part_rows(rows, parts, total):
     """Return the tuples of so many trees with this size in total, in the order of the first that differs."""
     if parts == 0:
         return [()] if total == 0 else []
     found = []
     # Each of the other parts has at least the size 1.
     for taken in range(1, total - parts + 2):
-        behind = _part_rows(rows, parts - 1, total - taken)
+        behind = part_rows(rows, parts - 1, total - taken)
         for first in rows[taken]:
             for row in behind:
                 found.append((first, *row))

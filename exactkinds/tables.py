@@ -107,14 +107,32 @@ def _is_flat(index):
 
 def _are_names_told(parts, index):
     """Return whether the names of a constructor are not too many and all stand in its parts."""
-    told = {}
-    for _, term in parts:
-        for name in names_of(term):
-            told[name] = True
+    told = _names_in(parts)
     for name in names_of(index):
         if name not in told:
             return False
     return len(told) <= MOST_NAMES
+
+
+def _names_in(kinds):
+    """Return the list of the names in the terms of pairs of a family and a term, in the order of first places."""
+    found = []
+    for _, term in kinds:
+        for name in names_of(term):
+            if name not in found:
+                found.append(name)
+    return found
+
+
+def made_names(constructor):
+    """Return the list of the names in the index that a constructor makes, in order."""
+    return names_of(constructor[3])
+
+
+def hidden_names(constructor):
+    """Return the list of the names of a constructor that its made index lacks, in the order of first places."""
+    made = made_names(constructor)
+    return [name for name in _names_in(constructor[1]) if name not in made]
 
 
 def parts_of(table, maker):

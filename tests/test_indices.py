@@ -48,6 +48,13 @@ class Forms(unittest.TestCase):
             self.assertIs(is_term(MAKERS, value), True)
             self.assertIs(is_tree(MAKERS, value), True)
 
+    def test_trees_that_share_their_parts(self):
+        tree, other = ZERO, ("pair", ZERO, "zero")
+        for _ in range(100):
+            tree, other = ("pair", tree, tree), ("pair", tree, other)
+        self.assertIs(is_tree(MAKERS, tree), True)
+        self.assertIs(is_tree(MAKERS, other), False)
+
     def test_terms_with_names_are_no_trees(self):
         for value in ("n", ("next", "n"), ("pair", ZERO, "n"), ("pair", "n", "n"), deep(199, "n")):
             self.assertIs(is_term(MAKERS, value), True)

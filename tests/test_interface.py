@@ -29,6 +29,31 @@ FUNCTIONS = {
         "constructors_of": ["table", "family"],
         "words_of": ["table"],
     },
+    "values": {
+        "is_raw": ["table", "value"],
+        "index_of": ["table", "value"],
+        "size": ["value"],
+        "before": ["table", "one", "other"],
+        "values_of": ["table", "total"],
+        "demanded": ["table", "function", "values"],
+    },
+    "rules": {"rules_of": ["table"], "are_right": ["table", "rules"]},
+    "machine": {
+        "machine_of": ["table"],
+        "state_of": ["machine", "tree"],
+        "step": ["machine", "maker", "parts"],
+        "holding": ["machine", "state"],
+        "into": ["machine", "state"],
+        "is_single": ["machine", "state"],
+        "least": ["machine", "state"],
+        "second": ["machine", "state"],
+        "value_at": ["table", "machine", "family", "tree"],
+    },
+    "upholding": {
+        "is_formed": ["table", "machine"],
+        "is_model": ["table", "machine"],
+        "is_upheld": ["table", "machine", "rules"],
+    },
 }
 
 

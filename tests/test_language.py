@@ -27,7 +27,7 @@ NODES = set("""
     Expr Pass Break Continue Assert Delete BoolOp And Or BinOp Add Sub Mult FloorDiv Mod UnaryOp Not USub Compare
     Eq NotEq Lt LtE Gt GtE Is IsNot In NotIn Call keyword IfExp Attribute Subscript Slice Starred Name Load Store
     Del List Tuple Dict Set ListComp SetComp DictComp GeneratorExp comprehension Constant JoinedStr FormattedValue
-    Lambda Try ExceptHandler
+    Lambda Try ExceptHandler BitAnd BitOr BitXor LShift
 """.split())
 UNUSED_NAMES = {"mro", "elements", "open", "input", "law", "version_info", "with_traceback", "add_note", "register",
                 "compile", "exec", "eval", "globals", "locals", "vars", "dir", "help", "id", "exit", "quit", "os",
