@@ -209,16 +209,16 @@ def _told(pairs, bound):
         for term in pair:
             for name in names_of(term):
                 if name in bound and name not in told:
-                    told[name] = _whole(name, bound)
+                    told[name] = whole(name, bound)
     return told
 
 
-def _whole(term, bound):
+def whole(term, bound):
     """Return the term with all that is bound put into it, also into what is put."""
     end = _followed(term, bound)
     if isinstance(end, str):
         return end
     items = [end[0]]
     for part in end[1:]:
-        items.append(_whole(part, bound))
+        items.append(whole(part, bound))
     return tuple(items)

@@ -60,5 +60,10 @@ def value_at(table, machine, family, tree):
     """Return a value of the family with this index, or None if there is none."""
     if family not in holding(machine, state_of(machine, tree)):
         return None
-    _, trees, rules = grown(table)
-    return Making(table, rules, step_rules(table, machine, trees)).value_at(family, tree)
+    return making_of(table).value_at(family, tree)
+
+
+def making_of(table):
+    """Return the making of values of a table."""
+    machine, trees, rules = grown(table)
+    return Making(table, rules, step_rules(table, machine, trees))

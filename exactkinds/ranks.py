@@ -15,7 +15,7 @@ def ranked(words, maker, parts):
 
 def least_ranked(machine):
     """Return the dict from the states to their least trees, ranked."""
-    words = _words_of(machine)
+    words = maker_words(machine)
     least = {}
     changed = True
     while changed:
@@ -32,7 +32,7 @@ def least_ranked(machine):
 
 def second_ranked(machine, least):
     """Return the dict from the states that are not single to their second trees, ranked."""
-    words = _words_of(machine)
+    words = maker_words(machine)
     second = {}
     changed = True
     while changed:
@@ -59,7 +59,8 @@ def _early_rows(parts, least, second):
     return rows
 
 
-def _words_of(machine):
+def maker_words(machine):
+    """Return the list of the words of the makers of a machine, in order."""
     words = []
     for maker, _, _ in machine[2]:
         if maker not in words:

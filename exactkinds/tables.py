@@ -1,7 +1,7 @@
 """Tables (points 300 and 301)."""
 
 from exactkinds.errors import BadTable
-from exactkinds.indices import depth, is_term, names_of
+from exactkinds.indices import is_term, names_of
 from exactkinds.limits import (
     MOST_CONSTRUCTORS, MOST_DEEP, MOST_FAMILIES, MOST_MAKERS, MOST_NAMES, MOST_PARTS)
 from exactkinds.words import is_word
@@ -88,12 +88,27 @@ def is_kind(table, value):
     """
     if not is_row(value, 2) or value[0] not in table[2]:
         return False
-    if not is_term(table[1], value[1]) or depth(value[1]) > MOST_DEEP:
+    if not is_term(table[1], value[1]) or _is_deeper(value[1], MOST_DEEP):
         return False
     for name in names_of(value[1]):
         if not is_word(name):
             return False
     return True
+
+
+def _is_deeper(term, most):
+    """Return whether a term is deeper than so many; it is not gone through further down.
+
+    A term that is nested 60 deep may have far too many places to go through them all.
+    """
+    if most == 0:
+        return True
+    if isinstance(term, str):
+        return False
+    for part in term[1:]:
+        if _is_deeper(part, most - 1):
+            return True
+    return False
 
 
 def _is_flat(index):

@@ -17,10 +17,10 @@ def _counts(table):
 def index_of(table, value):
     """Return the pair of the family and the index of a raw value, or None."""
     constructors = {constructor[0]: constructor for constructor in table[3]}
-    return folded(value, lambda word, kinds: _made_kind(constructors[word], kinds))
+    return folded(value, lambda word, kinds: made_kind(constructors[word], kinds))
 
 
-def _made_kind(constructor, kinds):
+def made_kind(constructor, kinds):
     """Return the family and the index that a constructor makes of parts with these, or None."""
     _, parts, family, index = constructor
     trees = trees_for(parts, kinds)

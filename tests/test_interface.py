@@ -54,6 +54,35 @@ FUNCTIONS = {
         "is_model": ["table", "machine"],
         "is_upheld": ["table", "machine", "rules"],
     },
+    "languages": {
+        "state_in": ["machine", "context", "term"],
+        "least_case": ["machine", "context"],
+        "parted": ["machine", "context", "one", "other"],
+        "opened": ["machine", "context", "name"],
+        "fits": ["machine", "context", "patterns", "terms"],
+        "vectors": ["machine", "names", "demands"],
+    },
+    "programs": {
+        "is_program": ["table", "value"],
+        "check_program": ["table", "value"],
+        "function_of": ["program", "word"],
+        "calls_of": ["program", "word"],
+        "group_of": ["program", "word"],
+        "names_in": ["pattern"],
+        "taken": ["patterns", "values"],
+        "clause_for": ["function", "values"],
+    },
+    "runs": {
+        "plain": ["program", "function", "values", "steps"],
+        "run": ["table", "program", "function", "values", "steps"],
+    },
+    "pieces": {
+        "context": ["table", "function", "skeleton"],
+        "lives": ["table", "machine", "function", "skeleton"],
+        "pieces": ["table", "machine", "function"],
+        "unreached": ["table", "machine", "function"],
+        "sample": ["table", "machine", "function", "skeleton"],
+    },
 }
 
 

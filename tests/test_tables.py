@@ -188,6 +188,13 @@ class Constructors(Case):
             deep = ("next", deep)
         self.wrong(with_part(deep))
 
+    def test_deep_terms_with_very_many_places(self):
+        deep = "n"
+        for _ in range(55):
+            deep = ("pair", deep, deep)
+        self.assertIs(is_table(with_part(deep)), False)
+        self.assertIs(is_table(with_one("C", (("A", "n"),), "A", deep)), False)
+
     def test_how_many_names(self):
         self.right(with_one("C", (("A", ("pair", "a", "b")), ("B", ("pair", "c", "d"))), "A", ("pair", "d", "a")))
         self.right(with_one("C", (("A", ("pair", "a", "b")), ("B", ("pair", "c", "d")), ("A", "a")), "A", "b"))

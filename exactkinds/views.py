@@ -1,0 +1,124 @@
+"""A machine made ready to be asked often (points 402 to 404).
+
+Sets of states are integers here: they have a bit for each state.
+"""
+
+from exactkinds.ranks import least_ranked, maker_words, ranked, second_ranked
+
+
+class View:
+    """The steps of a machine by their makers, what they make of sets of states, and the trees of its states."""
+
+    def __init__(self, machine):
+        self.machine = machine
+        self.states = machine[1]
+        self.everything = (1 << len(machine[1])) - 1
+        self.steps = {}
+        self.rows = {}
+        for maker, parts, state in machine[2]:
+            self.steps[(maker, parts)] = state
+            self.rows.setdefault(maker, []).append((parts, state))
+        self.lists = {}
+        self.ups = {}
+        self.downs = {}
+        self.least = []
+        self.second = []
+
+    def state_in(self, context, term):
+        """Return the state that a term has in all cases of a context."""
+        if isinstance(term, str):
+            return context[term]
+        parts = []
+        for part in term[1:]:
+            parts.append(self.state_in(context, part))
+        return self.steps[(term[0], tuple(parts))]
+
+    def listed(self, chosen):
+        """Return the list of the states of a set, ascending."""
+        if chosen not in self.lists:
+            self.lists[chosen] = [state for state in range(len(self.states)) if chosen & (1 << state)]
+        return self.lists[chosen]
+
+    def holding_set(self, family):
+        """Return the set of the states with a family."""
+        return self._set_of([state for state, families in enumerate(self.states) if family in families])
+
+    def single_set(self):
+        """Return the set of the states with one tree alone."""
+        self._find_trees()
+        return self._set_of([state for state, tree in enumerate(self.second) if tree is None])
+
+    def other_set(self, maker):
+        """Return the set of the states that have a tree with another maker."""
+        found = 0
+        for word in self.rows:
+            if word != maker:
+                for _, state in self.rows[word]:
+                    found = found | (1 << state)
+        return found
+
+    def _set_of(self, states):
+        found = 0
+        for state in states:
+            found = found | (1 << state)
+        return found
+
+    def up(self, maker, sets):
+        """Return the set of the states that the steps of a maker make of states of these sets."""
+        key = (maker, sets)
+        if key not in self.ups:
+            found = 0
+            for parts, state in self.rows[maker]:
+                if _are_in(parts, sets):
+                    found = found | (1 << state)
+            self.ups[key] = found
+        return self.ups[key]
+
+    def down(self, maker, sets, wanted):
+        """Return the list of the sets of those states among these of which the maker makes a wanted one."""
+        key = (maker, sets, wanted)
+        if key not in self.downs:
+            found = [0 for _ in sets]
+            for parts, state in self.rows[maker]:
+                if wanted & (1 << state) and _are_in(parts, sets):
+                    found = [chosen | (1 << part) for chosen, part in zip(found, parts)]
+            self.downs[key] = found
+        return self.downs[key]
+
+    def least_tree(self, state):
+        """Return the least tree of a state."""
+        self._find_trees()
+        return self.least[state][1]
+
+    def second_tree(self, state):
+        """Return the second tree of a state, or None."""
+        self._find_trees()
+        return self.second[state]
+
+    def other_tree(self, maker, state):
+        """Return the first tree of a state that has another maker; there must be one."""
+        self._find_trees()
+        words = maker_words(self.machine)
+        rows = []
+        for word, parts, made in self.machine[2]:
+            if word != maker and made == state:
+                rows.append(ranked(words, word, [self.least[part] for part in parts]))
+        _, tree = min(rows)
+        return tree
+
+    def _find_trees(self):
+        # Only when they are asked for, as most of what is asked of a machine needs no trees.
+        if self.least:
+            return
+        least = least_ranked(self.machine)
+        second = second_ranked(self.machine, least)
+        for state in range(len(self.states)):
+            self.least.append(least[state])
+            self.second.append(second[state][1] if state in second else None)
+
+
+def _are_in(parts, sets):
+    for part, chosen in zip(parts, sets):
+        if not chosen & (1 << part):
+            return False
+    return True
