@@ -59,6 +59,10 @@ class Cases:
         """Return a context in which further wants hold, or None if there is none."""
         return solution(self.view, self.domains, self.wants + further)
 
+    def first_case(self):
+        """Return a case of the first names; there must be one."""
+        return self._first_names(least_trees(self.view, self.first_context([])))
+
     def contexts(self):
         """Return the list of all contexts."""
         return solutions(self.view, self.domains, self.wants)
@@ -100,7 +104,7 @@ class Cases:
         if context is not None:
             case = least_trees(self.view, context)
             case[name] = self.view.other_tree(maker, context[name])
-            self._fail(case)
+            self.wrong = self._first_names(case)
             return False
         term = (maker, *numbered_parts(name, many))
         self.opened[name] = term
@@ -114,11 +118,12 @@ class Cases:
 
     def _differ(self):
         """Return False, as two makers differ in every case."""
-        self._fail(least_trees(self.view, self.first_context([])))
+        self.wrong = self.first_case()
         return False
 
-    def _fail(self, case):
-        self.wrong = {name: put(self.told(name), case) for name in self.names}
+    def _first_names(self, case):
+        """Return what a case is for the names that were there at first."""
+        return {name: put(self.told(name), case) for name in self.names}
 
     def same(self, one, other):
         """Return whether two terms are equal in all cases."""
@@ -145,6 +150,6 @@ class Cases:
         for further in ways:
             context = self.first_context(further)
             if context is not None:
-                self._fail(parting_case(self.view, context, one, other))
+                self.wrong = self._first_names(parting_case(self.view, context, one, other))
                 return False
         return True

@@ -34,7 +34,11 @@ class Line:
         self.tokens = _tokens_of(row.partition("#")[0])
         # Here and not while trees are taken, so that no text makes the taking of trees go deep.
         if _most_open(self.tokens) > MOST_OPEN:
-            raise BadText(number)
+            self.refuse()
+
+    def refuse(self):
+        """Raise BadText for this line."""
+        raise BadText(self.number)
 
     def comes(self, token):
         """Return whether this token is the next one."""
@@ -43,32 +47,32 @@ class Line:
     def take(self):
         """Return the next token and go on behind it."""
         if self.at == len(self.tokens):
-            raise BadText(self.number)
+            self.refuse()
         self.at += 1
         return self.tokens[self.at - 1]
 
     def skip(self, token):
         """Go on behind this token, which must be the next one."""
         if self.take() != token:
-            raise BadText(self.number)
+            self.refuse()
 
     def finish(self):
         """Make sure that no token is left."""
         if self.at != len(self.tokens):
-            raise BadText(self.number)
+            self.refuse()
 
     def take_word(self):
         """Return the next token, which must be a word."""
         token = self.take()
         if not is_word(token):
-            raise BadText(self.number)
+            self.refuse()
         return token
 
     def take_number(self):
         """Return the integer of the next token, which must be a number."""
         token = self.take()
         if not _is_number(token):
-            raise BadText(self.number)
+            self.refuse()
         return int(token)
 
     def take_tree(self):

@@ -2,25 +2,44 @@
 
 from exactkinds.errors import BadText
 from exactkinds.lines import Line, rows_of
+from exactkinds.questions import take_question
 
 
 class Draft:
-    """What the lines of a text tell so far.
+    """What the lines of a text tell so far; asks tells whether lines may be questions.
 
     Each word without parentheses is a string here, as a line further down may still declare it.
     """
 
-    def __init__(self):
+    def __init__(self, asks):
+        self.asks = asks
         self.makers = []
         self.families = []
         self.constructors = []
         self.functions = []
+        self.questions = []
 
 
 def read(text):
     """Return the pair of the table and the program that a text tells, or raise BadText."""
+    draft = _drafted(text, False)
+    return _table(draft), _program(draft)
+
+
+def read_job(text):
+    """Return the table, the program and the list of the questions that a job tells, or raise BadText."""
+    draft = _drafted(text, True)
+    makers = dict(draft.makers)
+    constructors = _constructor_words(draft)
+    for question in draft.questions:
+        words = makers if question.word == "holds" else constructors
+        question.trees = tuple([_declared(tree, words) for tree in question.trees])
+    return _table(draft), _program(draft), draft.questions
+
+
+def _drafted(text, asks):
     rows = rows_of(text)
-    draft = Draft()
+    draft = Draft(asks)
     for number, row in enumerate(rows, start=1):
         line = Line(row, number)
         if line.tokens:
@@ -29,7 +48,7 @@ def read(text):
     # Only now, as a bad line ahead of the one without a newline is told first.
     if text and not text.endswith("\n"):
         raise BadText(len(rows) + 1)
-    return _table(draft), _program(draft)
+    return draft
 
 
 def _take_line(draft, line):
@@ -45,8 +64,10 @@ def _take_line(draft, line):
         _take_constructor(draft, line)
     elif first == "fun":
         _take_function(draft, line)
+    elif first == "ask" and draft.asks:
+        draft.questions.append(take_question(line))
     else:
-        raise BadText(line.number)
+        line.refuse()
 
 
 def _take_maker(draft, line):
@@ -93,7 +114,7 @@ def _take_kind(line):
 def _take_clause(draft, line):
     word = line.take_word()
     if not draft.functions or draft.functions[-1][0] != word:
-        raise BadText(line.number)
+        line.refuse()
     patterns = line.take_trees()
     line.skip("=")
     clauses = draft.functions[-1][5]
@@ -110,12 +131,16 @@ def _table(draft):
 
 def _program(draft):
     makers = dict(draft.makers)
-    constructors = {row[0]: True for row in draft.constructors}
+    constructors = _constructor_words(draft)
     functions = []
     for word, params, family, index, falls, clauses in draft.functions:
         head = (word, _kinds(params, makers), family, _declared(index, makers), falls)
         functions.append(head + (_clauses(clauses, constructors),))
     return ("program", tuple(functions))
+
+
+def _constructor_words(draft):
+    return {row[0]: True for row in draft.constructors}
 
 
 def _kinds(kinds, makers):

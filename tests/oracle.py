@@ -179,13 +179,18 @@ def all_values(table, most):
 
 
 def asked_for(table, function, values, most):
-    """The list of tuples of values with the indices that a function asks for, at most so many."""
+    """The list of tuples of values with the indices that a function asks for, at most so many.
+
+    Not too many are tried, as a table may have very many values of a small size.
+    """
     found = []
+    tried = [0]
     rows = [values[family] for family, _ in function[1]]
     patterns = [term for _, term in function[1]]
 
     def go(done, names):
-        if len(found) >= most:
+        tried[0] += 1
+        if len(found) >= most or tried[0] > 20 * most:
             return
         if len(done) == len(rows):
             found.append(tuple(done))
@@ -384,6 +389,20 @@ def random_program(rng, table, many):
             if body is not None and size_by_hand(body) <= 30:
                 clauses.append((patterns, body))
         functions.append(head[:5] + (tuple(clauses),))
+    return ("program", tuple(functions))
+
+
+def copying(table):
+    """A program with a function for each family that takes values apart and puts them together again."""
+    functions = []
+    for family in table[2]:
+        clauses = []
+        for word, parts, made, _ in table[3]:
+            if made == family:
+                names = [f"x{at}" for at in range(len(parts))]
+                body = (word, *((f"copy{inner}", name) for (inner, _), name in zip(parts, names)))
+                clauses.append((((word, *names),), body))
+        functions.append((f"copy{family}", ((family, "n"),), family, "n", 0, tuple(clauses)))
     return ("program", tuple(functions))
 
 

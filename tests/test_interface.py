@@ -83,6 +83,25 @@ FUNCTIONS = {
         "unreached": ["table", "machine", "function"],
         "sample": ["table", "machine", "function", "skeleton"],
     },
+    "judging": {
+        "told_index": ["table", "program", "word", "clause", "trees"],
+        "told": ["table", "program", "word", "values"],
+        "finding": ["table", "machine", "program", "word", "piece"],
+        "right_at": ["table", "machine", "program", "word", "piece", "vector"],
+        "findings": ["table", "machine", "program", "word"],
+        "right_functions": ["table", "machine", "program"],
+        "judged": ["table", "machine", "program"],
+    },
+    "papers": {
+        "paper": ["table", "machine", "program"],
+        "accepts": ["table", "program", "paper"],
+    },
+    "changes": {
+        "to_judge": ["elder", "newer"],
+        "right_behind": ["table", "machine", "elder", "right", "newer"],
+        "region": ["table", "machine", "program", "word"],
+    },
+    "jobs": {"answers": ["text"]},
 }
 
 
