@@ -33,7 +33,8 @@ def right_behind(table, machine, elder, right, newer):
     found = []
     for function in newer[1]:
         word = function[0]
-        if judge.is_right(function) if word in again else word in right:
+        verdict = judge.is_right(function) if word in again else word in right
+        if verdict:
             found.append(word)
     return tuple(found)
 
@@ -43,7 +44,7 @@ def region(table, machine, program, word):
     judge = Judge(table, machine, program)
     function = function_of(program, word)
     # Most pieces are right at all vectors.
-    wrong = [piece for piece in judge.pieces_in(function) if judge.wrong_case(function, piece, []) is not None]
+    wrong = [piece for piece in judge.pieces_in(function) if not judge.is_right_at(function, piece, [])]
     rows = []
     for vector in vectors(machine, names_asked(function), list(function[1])):
         rows.append((vector, _is_right_at(judge, function, wrong, vector)))
@@ -56,6 +57,6 @@ def _is_right_at(judge, function, wrong, vector):
         params, _ = context(judge.table, function, piece[1])
         terms = fitted([term for _, term in function[1]], params)
         further = [(1 << state, terms[name]) for name, state in vector.items()]
-        if judge.wrong_case(function, piece, further) is not None:
+        if not judge.is_right_at(function, piece, further):
             return False
     return True

@@ -38,7 +38,8 @@ class Cases:
     """The cases of contexts, one for each solution of wants, in which all patterns fitted so far.
 
     Opened has the terms of the names that were opened, and domains those that were not. If something does not fit or
-    is not equal in a case, wrong becomes this case: a dict from the first names to trees.
+    is not equal in a case, fault becomes a context that has such cases, and a tuple of what makes a case such a one:
+    a name and a maker that is not its, or two terms that differ, or nothing if all cases are such.
     """
 
     def __init__(self, view, domains, wants):
@@ -47,7 +48,7 @@ class Cases:
         self.domains = domains
         self.wants = wants
         self.opened = {}
-        self.wrong = None
+        self.fault = None
         self._settle()
 
     def _settle(self):
@@ -59,15 +60,32 @@ class Cases:
         """Return a context in which further wants hold, or None if there is none."""
         return solution(self.view, self.domains, self.wants + further)
 
-    def first_case(self):
-        """Return a case of the first names; there must be one."""
-        return self._first_names(least_trees(self.view, self.first_context([])))
+    def spoil(self, further, reason):
+        """Make a context in which further wants hold the fault, if there is one; return whether there is one."""
+        found = self.first_context(further)
+        if found is not None:
+            self.fault = (found, reason)
+        return found is not None
+
+    def wrong_case(self):
+        """Return a case of the fault, a dict from the first names to trees, or None if there is no fault."""
+        if self.fault is None:
+            return None
+        found, reason = self.fault
+        case = least_trees(self.view, found)
+        if reason and reason[0] == "maker":
+            _, name, maker = reason
+            case[name] = self.view.other_tree(maker, found[name])
+        elif reason:
+            _, one, other = reason
+            case = parting_case(self.view, found, one, other)
+        return {name: put(self.in_full(name), case) for name in self.names}
 
     def contexts(self):
         """Return the list of all contexts."""
         return solutions(self.view, self.domains, self.wants)
 
-    def told(self, term):
+    def in_full(self, term):
         """Return the term with the terms of all opened names put in."""
         return whole(term, self.opened)
 
@@ -88,7 +106,8 @@ class Cases:
                 return False
             term = self.opened[term]
         if term[0] != pattern[0]:
-            return self._differ()
+            # Two makers differ in every case.
+            return not self.spoil([], ())
         for inner, part in zip(pattern[1:], term[1:]):
             if not self._fits(inner, part, found):
                 return False
@@ -99,12 +118,7 @@ class Cases:
 
     def _open(self, name, maker, many):
         """Open a name if it has this maker in all cases; return whether it has."""
-        others = self.view.other_set(maker)
-        context = self.first_context([(others, name)])
-        if context is not None:
-            case = least_trees(self.view, context)
-            case[name] = self.view.other_tree(maker, context[name])
-            self.wrong = self._first_names(case)
+        if self.spoil([(self.view.other_set(maker), name)], ("maker", name, maker)):
             return False
         term = (maker, *numbered_parts(name, many))
         self.opened[name] = term
@@ -116,15 +130,6 @@ class Cases:
         self._settle()
         return True
 
-    def _differ(self):
-        """Return False, as two makers differ in every case."""
-        self.wrong = self.first_case()
-        return False
-
-    def _first_names(self, case):
-        """Return what a case is for the names that were there at first."""
-        return {name: put(self.told(name), case) for name in self.names}
-
     def same(self, one, other):
         """Return whether two terms are equal in all cases."""
         one = self._followed(one)
@@ -132,9 +137,10 @@ class Cases:
         if one == other:
             return True
         if isinstance(one, str) or isinstance(other, str):
-            return self._are_one_tree(self.told(one), self.told(other))
+            return self._are_one_tree(self.in_full(one), self.in_full(other))
         if one[0] != other[0]:
-            return self._differ()
+            # Two makers differ in every case.
+            return not self.spoil([], ())
         for part, beside in zip(one[1:], other[1:]):
             if not self.same(part, beside):
                 return False
@@ -148,8 +154,6 @@ class Cases:
         for state in self.view.listed(singles):
             ways.append([(1 << state, one), (self.view.everything ^ (1 << state), other)])
         for further in ways:
-            context = self.first_context(further)
-            if context is not None:
-                self.wrong = self._first_names(parting_case(self.view, context, one, other))
+            if self.spoil(further, ("terms", one, other)):
                 return False
         return True

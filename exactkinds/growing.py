@@ -70,7 +70,7 @@ def _machine_told(makers, told):
     while reach.waiting:
         reach.settle_first()
         reach.enter_steps()
-    return reach.machine(), [tree for _, tree in reach.trees]
+    return reach.found_machine(), [tree for _, tree in reach.trees]
 
 
 class Reach:
@@ -110,7 +110,7 @@ class Reach:
         self.states.append(state)
         self.trees.append(self.waiting.pop(state))
 
-    def machine(self):
+    def found_machine(self):
         """Return the machine, when no state waits any more."""
         rows = []
         for maker, many in self.makers:

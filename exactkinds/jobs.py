@@ -34,7 +34,8 @@ def _check_question(table, program, question):
     if question.word == "holds" and question.name not in table[2]:
         raise BadJob()
     for tree in question.trees:
-        if not (is_tree(table[1], tree) if question.word == "holds" else is_raw(table, tree)):
+        right = is_tree(table[1], tree) if question.word == "holds" else is_raw(table, tree)
+        if not right:
             raise BadJob()
 
 

@@ -38,7 +38,7 @@ def right_at(table, machine, program, word, piece, vector):
     """Return whether a piece is told right for all values that belong to the cases of a vector."""
     judge = Judge(table, machine, program)
     further = [(1 << state, name) for name, state in vector.items()]
-    return judge.wrong_case(function_of(program, word), piece, further) is None
+    return judge.is_right_at(function_of(program, word), piece, further)
 
 
 def findings(table, machine, program, word):

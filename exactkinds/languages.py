@@ -44,14 +44,14 @@ def fits(machine, context, patterns, terms):
     cases = _cases_of(View(machine), context)
     found = cases.fit(patterns, terms)
     if found is None:
-        return ("not", cases.wrong)
+        return ("not", cases.wrong_case())
     return ("always", [_row(cases, inner, found) for inner in cases.contexts()])
 
 
 def _row(cases, inner, found):
     """Return the row for one of the contexts in which the patterns fitted."""
-    terms = {name: cases.told(name) for name in cases.names}
-    return inner, terms, {name: cases.told(term) for name, term in found.items()}
+    terms = {name: cases.in_full(name) for name in cases.names}
+    return inner, terms, {name: cases.in_full(term) for name, term in found.items()}
 
 
 def vectors(machine, names, demands):

@@ -22,22 +22,26 @@ class Judge:
         """Return the list of the pieces of a function."""
         return pieces_of(self.view, self.table, function)
 
-    def wrong_case(self, function, piece, further):
-        """Return a case of a piece in which it is told wrong and further wants hold, or None if there is none."""
+    def cases_of(self, function, piece, further):
+        """Return the cases of a piece in which further wants hold, with the fault that is found of them, if any."""
         clause, skeleton = piece
         told = context(self.table, function, skeleton)
         wants = demand_wants(self.view, told[1]) + further
         cases = Cases(self.view, free_domains(self.view, names_told(told)), wants)
-        if cases.first_context([]) is None:
-            return None
-        if clause == -1:
-            return cases.first_case()
-        Ending(self.table, function, clause, skeleton, told).holds(self.heads, cases)
-        return cases.wrong
+        # What is told of a clause presumes that there are cases.
+        if clause == -1 or cases.first_context([]) is None:
+            cases.spoil([], ())
+        else:
+            Ending(self.table, function, clause, skeleton, told).holds(self.heads, cases)
+        return cases
+
+    def is_right_at(self, function, piece, further):
+        """Return whether a piece is told right in all cases in which further wants hold."""
+        return self.cases_of(function, piece, further).fault is None
 
     def finding(self, function, piece):
         """Return values of a piece that are told wrong, or None if it is right."""
-        case = self.wrong_case(function, piece, [])
+        case = self.cases_of(function, piece, []).wrong_case()
         if case is None:
             return None
         if self.making is None:
@@ -56,6 +60,6 @@ class Judge:
     def is_right(self, function):
         """Return whether a function is right."""
         for piece in self.pieces_in(function):
-            if self.wrong_case(function, piece, []) is not None:
+            if not self.is_right_at(function, piece, []):
                 return False
         return True

@@ -21,8 +21,9 @@ class View:
         self.lists = {}
         self.ups = {}
         self.downs = {}
-        self.least = []
-        self.second = []
+        # Only found when they are asked for, as most of what is asked of a machine needs no trees.
+        self.least = {}
+        self.second = {}
 
     def state_in(self, context, term):
         """Return the state that a term has in all cases of a context."""
@@ -44,9 +45,21 @@ class View:
         return self._set_of([state for state, families in enumerate(self.states) if family in families])
 
     def single_set(self):
-        """Return the set of the states with one tree alone."""
-        self._find_trees()
-        return self._set_of([state for state, tree in enumerate(self.second) if tree is None])
+        """Return the set of the states with one tree alone.
+
+        These are the states into which one step alone leads, and this one from such states.
+        """
+        steps = [[] for _ in self.states]
+        for _, parts, state in self.machine[2]:
+            steps[state].append(parts)
+        singles = {}
+        many = -1
+        while many < len(singles):
+            many = len(singles)
+            for state, rows in enumerate(steps):
+                if len(rows) == 1 and False not in [part in singles for part in rows[0]]:
+                    singles[state] = True
+        return self._set_of(list(singles))
 
     def other_set(self, maker):
         """Return the set of the states that have a tree with another maker."""
@@ -87,34 +100,31 @@ class View:
 
     def least_tree(self, state):
         """Return the least tree of a state."""
-        self._find_trees()
-        return self.least[state][1]
+        _, tree = self._least_ranked()[state]
+        return tree
 
     def second_tree(self, state):
         """Return the second tree of a state, or None."""
-        self._find_trees()
+        if not self.second:
+            found = second_ranked(self.machine, self._least_ranked())
+            for one in range(len(self.states)):
+                self.second[one] = found[one][1] if one in found else None
         return self.second[state]
 
     def other_tree(self, maker, state):
         """Return the first tree of a state that has another maker; there must be one."""
-        self._find_trees()
         words = maker_words(self.machine)
         rows = []
         for word, parts, made in self.machine[2]:
             if word != maker and made == state:
-                rows.append(ranked(words, word, [self.least[part] for part in parts]))
+                rows.append(ranked(words, word, [self._least_ranked()[part] for part in parts]))
         _, tree = min(rows)
         return tree
 
-    def _find_trees(self):
-        # Only when they are asked for, as most of what is asked of a machine needs no trees.
-        if self.least:
-            return
-        least = least_ranked(self.machine)
-        second = second_ranked(self.machine, least)
-        for state in range(len(self.states)):
-            self.least.append(least[state])
-            self.second.append(second[state][1] if state in second else None)
+    def _least_ranked(self):
+        if not self.least:
+            self.least.update(least_ranked(self.machine))
+        return self.least
 
 
 def _are_in(parts, sets):
