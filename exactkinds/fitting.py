@@ -34,20 +34,77 @@ def numbered_parts(name, many):
     return [f"{name}.{number}" for number in range(1, many + 1)]
 
 
-class Cases:
+class Fitter:
+    """Fitting patterns to terms some of whose names stand for further terms, and comparing such terms."""
+
+    def __init__(self):
+        self.terms = {}
+
+    def in_full(self, term):
+        """Return a term with the terms of all names put in."""
+        return whole(term, self.terms)
+
+    def fit(self, patterns, terms):
+        """Return what the names of the patterns stand for if these fit the terms, otherwise None."""
+        found = {}
+        for pattern, term in zip(patterns, terms):
+            if not self._fits(pattern, term, found):
+                return None
+        return found
+
+    def _fits(self, pattern, term, found):
+        if isinstance(pattern, str):
+            return self.same(found.setdefault(pattern, term), term)
+        term = self._followed(term)
+        if isinstance(term, str):
+            if not self.has_maker(term, pattern[0], len(pattern) - 1):
+                return False
+            term = self.terms[term]
+        if term[0] != pattern[0]:
+            return self.are_unlike()
+        for inner, part in zip(pattern[1:], term[1:]):
+            if not self._fits(inner, part, found):
+                return False
+        return True
+
+    def same(self, one, other):
+        """Return whether two terms are equal."""
+        one = self._followed(one)
+        other = self._followed(other)
+        if one == other:
+            return True
+        if isinstance(one, str) or isinstance(other, str):
+            return self.are_one_tree(one, other)
+        if one[0] != other[0]:
+            return self.are_unlike()
+        # If both have the same single state, their parts have such, too.
+        for part, beside in zip(one[1:], other[1:]):
+            if not self.same(part, beside):
+                return False
+        return True
+
+    def are_unlike(self):
+        """Return False, as two makers differ."""
+        return False
+
+    def _followed(self, term):
+        return self.terms.get(term, term) if isinstance(term, str) else term
+
+
+class Cases(Fitter):
     """The cases of contexts, one for each solution of wants, in which all patterns fitted so far.
 
-    Opened has the terms of the names that were opened, and domains those that were not. If something does not fit or
-    is not equal in a case, fault becomes a context that has such cases, and a tuple of what makes a case such a one:
-    a name and a maker that is not its, or two terms that differ, or nothing if all cases are such.
+    The names that were opened stand for terms, and the domains have the others. If something does not fit or is not
+    equal in a case, fault becomes a context that has such cases, and a tuple of what makes a case such a one: a name
+    and a maker that is not its, or two terms that differ, or nothing if all cases are such.
     """
 
     def __init__(self, view, domains, wants):
+        Fitter.__init__(self)
         self.view = view
         self.names = list(domains)
         self.domains = domains
         self.wants = wants
-        self.opened = {}
         self.fault = None
         self._settle()
 
@@ -85,43 +142,12 @@ class Cases:
         """Return the list of all contexts."""
         return solutions(self.view, self.domains, self.wants)
 
-    def in_full(self, term):
-        """Return the term with the terms of all opened names put in."""
-        return whole(term, self.opened)
-
-    def fit(self, patterns, terms):
-        """Return what the names of the patterns stand for if these always fit the terms, otherwise None."""
-        found = {}
-        for pattern, term in zip(patterns, terms):
-            if not self._fits(pattern, term, found):
-                return None
-        return found
-
-    def _fits(self, pattern, term, found):
-        if isinstance(pattern, str):
-            return self.same(found.setdefault(pattern, term), term)
-        term = self._followed(term)
-        if isinstance(term, str):
-            if not self._open(term, pattern[0], len(pattern) - 1):
-                return False
-            term = self.opened[term]
-        if term[0] != pattern[0]:
-            # Two makers differ in every case.
-            return not self.spoil([], ())
-        for inner, part in zip(pattern[1:], term[1:]):
-            if not self._fits(inner, part, found):
-                return False
-        return True
-
-    def _followed(self, term):
-        return self.opened.get(term, term) if isinstance(term, str) else term
-
-    def _open(self, name, maker, many):
+    def has_maker(self, name, maker, many):
         """Open a name if it has this maker in all cases; return whether it has."""
         if self.spoil([(self.view.other_set(maker), name)], ("maker", name, maker)):
             return False
         term = (maker, *numbered_parts(name, many))
-        self.opened[name] = term
+        self.terms[name] = term
         self.wants = [(wanted, put(inner, {name: term})) for wanted, inner in self.wants]
         self.wants.append((self.domains[name], term))
         self.domains = {inner: chosen for inner, chosen in self.domains.items() if inner != name}
@@ -130,24 +156,14 @@ class Cases:
         self._settle()
         return True
 
-    def same(self, one, other):
-        """Return whether two terms are equal in all cases."""
-        one = self._followed(one)
-        other = self._followed(other)
-        if one == other:
-            return True
-        if isinstance(one, str) or isinstance(other, str):
-            return self._are_one_tree(self.in_full(one), self.in_full(other))
-        if one[0] != other[0]:
-            # Two makers differ in every case.
-            return not self.spoil([], ())
-        for part, beside in zip(one[1:], other[1:]):
-            if not self.same(part, beside):
-                return False
-        return True
+    def are_unlike(self):
+        """Return False, as two makers differ, whatever the case."""
+        return not self.spoil([], ())
 
-    def _are_one_tree(self, one, other):
+    def are_one_tree(self, one, other):
         """Return whether two terms, one of which is a name, have the same single state in all contexts."""
+        one = self.in_full(one)
+        other = self.in_full(other)
         singles = self.view.single_set()
         several = self.view.everything ^ singles
         ways = [[(several, one)], [(several, other)]]

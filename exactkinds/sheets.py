@@ -1,24 +1,23 @@
 """What is known of the index names of a context as the cases of a paper go on (point 1003)."""
 
-from exactkinds.fitting import numbered_parts
-from exactkinds.indices import whole
+from exactkinds.fitting import Fitter, numbered_parts
 from exactkinds.pieces import names_told
 
 
-class Sheet:
+class Sheet(Fitter):
     """The states and the terms that the index names of a context got.
 
-    A name that got a term keeps its state, which is that of the term. Block has the terms that were met last where
-    something did not fit or was not the same.
+    A name that got a term keeps its state, which is that of the term. Block has the terms that were compared last by
+    their states, or the name that was met last where a maker was asked for.
     """
 
     def __init__(self, view, told):
+        Fitter.__init__(self)
         self.view = view
         self.names = names_told(told)
         self.places = told[1]
         self.singles = view.single_set()
         self.states = {}
-        self.terms = {}
         self.block = ()
 
     def is_free(self, name):
@@ -67,50 +66,13 @@ class Sheet:
         state = self.state_of(term)
         return state is not None and family not in self.view.states[state]
 
-    def in_full(self, term):
-        """Return a term with the terms of its names put in."""
-        return whole(term, self.terms)
-
-    def fit(self, patterns, terms):
-        """Return what the names of the patterns stand for if these fit the terms, otherwise None."""
-        found = {}
-        for pattern, term in zip(patterns, terms):
-            if not self._fits(pattern, term, found):
-                return None
-        return found
-
-    def _fits(self, pattern, term, found):
-        if isinstance(pattern, str):
-            return self.same(found.setdefault(pattern, term), term)
-        term = self._followed(term)
-        if isinstance(term, str) or term[0] != pattern[0]:
-            self.block = (term,)
-            return False
-        for inner, part in zip(pattern[1:], term[1:]):
-            if not self._fits(inner, part, found):
-                return False
-        return True
-
-    def _followed(self, term):
-        return self.terms.get(term, term) if isinstance(term, str) else term
-
-    def same(self, one, other):
-        """Return whether two terms are the same as point 1003 tells."""
-        one = self._followed(one)
-        other = self._followed(other)
-        if one == other:
-            return True
-        if isinstance(one, str) or isinstance(other, str) or one[0] != other[0]:
-            return self._are_one_tree(one, other)
-        # If both have the same single state, their parts have such, too.
-        for part, beside in zip(one[1:], other[1:]):
-            if not self.same(part, beside):
-                return False
-        return True
-
-    def _are_one_tree(self, one, other):
-        state = self.state_of(one)
-        if state is not None and self.singles & (1 << state) and state == self.state_of(other):
-            return True
-        self.block = (one, other)
+    def has_maker(self, name, maker, many):
+        """Return False: a maker fits the same maker alone."""
+        self.block = (name,)
         return False
+
+    def are_one_tree(self, one, other):
+        """Return whether two terms, one of which is a name, have the same single state."""
+        self.block = (one, other)
+        state = self.state_of(one)
+        return state is not None and self.singles & (1 << state) > 0 and state == self.state_of(other)
