@@ -140,8 +140,7 @@ def _are_calls_falling(program, group, pattern, body):
     below = names_in(pattern) if isinstance(pattern, tuple) else ()
     for call in _nodes_of(body):
         if call[0] in group:
-            argument = call[function_of(program, call[0])[4] + 1]
-            if not isinstance(argument, str) or argument not in below:
+            if call[function_of(program, call[0])[4] + 1] not in below:
                 return False
     return True
 

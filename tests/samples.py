@@ -101,6 +101,12 @@ NOWHERE = ("table", COUNT, ("Nat", "No", "Never"), PLAIN[3] + (
     ("M", (("No", "n"),), "No", nx("n")),
     ("K", (("No", nx("h")), ("Nat", "n")), "Never", nx("n")),
     ("J", (("Never", "n"),), "No", "n")))
+# Whether two trees are both even or both odd is told of neither of them alone.
+PARITY = ("table", PAIRS, ("Even", "Odd", "Same", "Diff"), EVEN_ODD[3] + (
+    ("SE", (("Even", "m"), ("Even", "n")), "Same", pair("m", "n")),
+    ("SO", (("Odd", "m"), ("Odd", "n")), "Same", pair("m", "n")),
+    ("DE", (("Even", "m"), ("Odd", "n")), "Diff", pair("m", "n")),
+    ("DO", (("Odd", "m"), ("Even", "n")), "Diff", pair("m", "n"))))
 # The six states with two families follow one another.
 SIX = ("table", COUNT, ("A", "B", "C", "D"), tuple(
     (f"K{at}{made}", (((one, "n"), (other, "n"))), made, nx("n"))
@@ -145,7 +151,7 @@ GREAT = ("table", (("o", 0), ("u", 1), ("w", 1), ("p", 2), ("q", 2)), ("A", "B",
     ("V", (("D", _q("a", "b")), ("D", _q("b", "n")), ("A", _p(_u("a"), _u("n")))), "A", "n")))
 
 SMALL = (EVEN_ODD, BALANCED, VECTORS, PLAIN, BARE, ALONE, THREE, DOUBLING, SWAPPED, CROSSED, LATE, ANY, HIDDEN_ONE,
-         HIDDEN_TWO, HIDDEN_THREE, HIDDEN_FOUR, NOWHERE, SIX)
+         HIDDEN_TWO, HIDDEN_THREE, HIDDEN_FOUR, NOWHERE, SIX, PARITY)
 
 
 def fit(pattern, tree, found):

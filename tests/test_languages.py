@@ -9,7 +9,7 @@ from exactkinds.indices import names_of
 from exactkinds.languages import fits, least_case, opened, parted, state_in, vectors
 from exactkinds.machine import into, least, machine_of, second, state_of
 from tests.samples import (
-    ALONE, BALANCED, BARE, CROSSED, DOUBLING, EVEN_ODD, GREAT, HIDDEN_FOUR, LATE, PAIRS, PLAIN, SIX, SMALL, SWAPPED,
+    ALONE, BALANCED, BARE, CROSSED, DOUBLING, EVEN_ODD, GREAT, HIDDEN_FOUR, LATE, PARITY, PLAIN, SIX, SMALL, SWAPPED,
     THREE, ZERO, chain, filled, fit, nested, nx, pair, random_table, random_term, random_tree, trees_by_hand)
 
 TURNS = machine_of(EVEN_ODD)
@@ -431,6 +431,29 @@ class Vectors(unittest.TestCase):
                            for _ in range(rng.randint(1, 4))]
                 seen += len(self.tells(table, names, demands))
         self.assertGreater(seen, 1000)
+
+    def test_demands_none_of_which_tells_of_one_name_alone(self):
+        self.assertEqual(len(self.tells(PARITY, ["a", "b", "c"], [
+            ("Same", pair("a", "b")), ("Diff", pair("b", "c")), ("Diff", pair("a", "c"))])), 2)
+        self.assertEqual(self.tells(PARITY, ["a", "b", "c"], [
+            ("Same", pair("a", "b")), ("Diff", pair("b", "c")), ("Same", pair("a", "c"))]), [])
+        self.assertEqual(len(self.tells(PARITY, ["a", "b", "c", "d"], [
+            ("Diff", pair("d", "c")), ("Diff", pair("a", "b"))])), 4)
+        self.assertEqual(self.tells(PARITY, ["a", "b", "c", "d"], [
+            ("Diff", pair("d", "c")), ("Diff", pair("a", "b")), ("Same", pair("c", "d"))]), [])
+        rng = random.Random(509)
+        counts = []
+        for _ in range(60):
+            names = list("abcd")
+            demands = [(rng.choice(("Same", "Diff")), pair(rng.choice(names), nx(rng.choice(names))))
+                       for _ in range(rng.randint(2, 5))]
+            counts.append(len(self.tells(PARITY, names, demands)))
+        self.assertGreater(min(counts.count(0), len([one for one in counts if one])), 10)
+        # Twenty names in a row, and a ring of an odd number of them that differ.
+        names = [f"n{at}" for at in range(20)]
+        row = [("Diff", pair(one, other)) for one, other in zip(names, names[1:])]
+        self.assertEqual(len(vectors(machine_of(PARITY), names, row)), 2)
+        self.assertEqual(vectors(machine_of(PARITY), names, row + [("Same", pair("n0", "n19"))]), [])
 
     def test_many_names_of_which_few_vectors_are(self):
         # Each name is bound to the next one, so that trying all states would take for ever.

@@ -18,7 +18,8 @@ from exactkinds.values import is_raw
 from exactkinds.writing import write
 from tests.oracle import (
     ALL, AT, VECTOR_TABLE, asked_trees, copying, random_program, told_by_hand)
-from tests.samples import ALONE, ANYTHING, DOUBLING, EVEN_ODD, GREAT, LATE, SMALL, nested, random_table
+from tests.samples import (
+    ALONE, ANYTHING, DOUBLING, EVEN_ODD, GREAT, LATE, PARITY, SMALL, nested, random_table)
 
 VECTOR_MACHINE = machine_of(VECTOR_TABLE)
 TURNS_MACHINE = machine_of(EVEN_ODD)
@@ -294,7 +295,8 @@ class Made(Case):
         self.assertGreater(min(words.count("let"), words.count("not")), 60)
 
     def test_all_kinds_of_cases(self):
-        for text, start in ((OPENED, EVEN_ODD), (SINGLES, ALONE), (PAIRED, DOUBLING)):
+        for text, start in ((OPENED, EVEN_ODD), (SINGLES, ALONE), (PAIRED, DOUBLING), (HUNG, PARITY),
+                            (BOTH, NEXT)):
             table, _, program = self.reading(text, start)
             found = self.check(table, program)
             self.assertEqual(found[0], "let")
@@ -350,7 +352,27 @@ h(BC(x, y)) = left(BC(y, x))
 fun k falls 0 : C(pair(m, n)) -> C(pair(n, m))
 k(x) = BC(h(x), left(x))
 """
-# What a name that was opened twice stands for is the same again.
+HUNG = """
+fun none falls 0 : Same(pair(a, b)), Diff(pair(b, c)), Same(pair(a, c)) -> Even(a)
+fun f falls 0 : Diff(pair(a, b)), Same(pair(b, next(zero))) -> Even(a)
+f(DE(x, y), z) = x
+fun g falls 0 : Diff(pair(a, b)), Same(pair(b, c)) -> Diff(pair(b, a))
+g(DE(x, y), z) = DO(y, x)
+g(DO(x, y), SE(z, w)) = DE(y, x)
+"""
+# Two states of an index are opened one behind the other.
+BOTH = """
+fun f falls 0 : Next(n), Next(m) -> Even(zero)
+f(l, r) = g(l, r)
+fun g falls 0 : Next(next(n)), Next(next(m)) -> Even(zero)
+g(l, r) = E
+fun h falls 0 : Next(next(n)), Even(m) -> Even(zero)
+h(NE(x), y) = g(NE(x), NE(y))
+h(NO(x), F(y)) = f(NO(x), NO(y))
+h(NO(x), y) = y
+"""
+NEXT = EVEN_ODD[:2] + (("Even", "Odd", "Next"), EVEN_ODD[3] + (
+    ("NE", (("Even", "n"),), "Next", ("next", "n")), ("NO", (("Odd", "n"),), "Next", ("next", "n"))))
 DEAD_CASES = ("states", "i0", (("never", 1), ("never", 0)))
 OPENED_TREES = (
     ("body", 0, ("states", "i0", (("never", 0), ("steps", "i0", (END,))))),
@@ -475,6 +497,17 @@ class MadeByHand(Case):
         self.refused(VECTOR_TABLE, AT, exchanged(AT_PAPER, (2, 0, 2, 1, 2, 1, 1), True))
         self.refused(VECTOR_TABLE, AT, exchanged(AT_PAPER, (2, 0), ("body", 0, END)))
         self.refused(VECTOR_TABLE, AT, exchanged(AT_PAPER, (2, 0, 2, 0), ("body", 0, END)))
+
+    def test_hole(self):
+        table, machine, program = self.reading("""
+fun f falls 0 : Even(n) -> Even(n)
+f(E) = E
+""", EVEN_ODD)
+        for tree in (("body", -1, END), ("body", 0, END), ("dead", END), CLASH, ("split", 0, ())):
+            self.refused(table, program, ("let", machine, (("split", 0, (("body", 0, END), tree)),)))
+        program = ("program", (program[1][0][:5] + ((),),))
+        for tree in (("body", -1, END), ("body", 0, END), ("dead", END), CLASH, END, ()):
+            self.refused(table, program, ("let", machine, (tree,)))
 
     def test_clause_that_is_not_the_first(self):
         table, machine, program = self.reading("""
@@ -746,7 +779,7 @@ class Changed(Case):
         rng = random.Random(1002)
         answers = []
         rows = [(table, copying(table)) for table in SMALL] + list(ALL)
-        for text, start in ((OPENED, EVEN_ODD), (SINGLES, ALONE), (PAIRED, DOUBLING)):
+        for text, start in ((OPENED, EVEN_ODD), (SINGLES, ALONE), (PAIRED, DOUBLING), (HUNG, PARITY), (BOTH, NEXT)):
             table, _, program = self.reading(text, start)
             rows += [(table, program)] * 4
         for table, program in rows:

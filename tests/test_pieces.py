@@ -16,7 +16,7 @@ from tests.oracle import (
     ALL, AT, MORE, TURNS, TURNS_TABLE, TYPED, TYPED_TABLE, VECTOR_TABLE, all_values, asked_for, asked_trees, belongs,
     function_in, random_program)
 from tests.samples import (
-    BALANCED, EVEN_ODD, GREAT, PAIRS, SMALL, filled, fit, index_by_hand, nx, pair, random_table)
+    BALANCED, EVEN_ODD, GREAT, PAIRS, PARITY, SMALL, filled, fit, index_by_hand, nx, pair, random_table)
 
 Z = ("z",)
 
@@ -201,6 +201,21 @@ class Lives(unittest.TestCase):
         function = head(("Even", "n"), ("Odd", nx("n")))
         self.assertIs(lives(EVEN_ODD, machine, function, ("v0", "v1")), True)
         self.assertIs(lives(EVEN_ODD, machine, head(("Even", nx(nx("n"))), ("Odd", "n")), ("v0", "v1")), False)
+
+    def test_places_none_of_which_tells_of_one_name_alone(self):
+        machine = machine_of(PARITY)
+        for one, alive in (("Diff", True), ("Same", False)):
+            function = head(("Same", pair("a", "b")), ("Diff", pair("b", "c")), (one, pair("a", "c")), index="a",
+                            family="Same")
+            self.assertIs(lives(PARITY, machine, function, ("v0", "v1", "v2")), alive)
+            self.assertIs(lives(PARITY, machine, function, (("SO", "v0", "v1"), "v2", "v3")), alive)
+            self.assertEqual(pieces(PARITY, machine, function), [(-1, ("v0", "v1", "v2"))] if alive else [])
+        # The least states of the names are no vector.
+        for params in ((("Diff", pair("a", "b")),), (("Diff", pair("a", "b")), ("Diff", pair("c", "d"))),
+                       (("Diff", pair("a", "b")), ("Same", pair("c", "b")), ("Diff", pair("d", "b")))):
+            function = head(*params, index="a", family="Even")
+            skeleton = tuple(f"v{at}" for at in range(len(params)))
+            self.assertIsNotNone(asked_trees(PARITY, function, sample(PARITY, machine, function, skeleton)))
 
     def test_family_without_constructors(self):
         table = ("table", PAIRS, ("Nat", "No"), (("Z", (), "Nat", ("zero",)), ("S", (("Nat", "n"),), "Nat", nx("n"))))

@@ -372,6 +372,10 @@ class Parts(unittest.TestCase):
         self.assertEqual(group_of(TURNS, "never"), ("never",))
         self.assertEqual(group_of(TYPED, "eval"), ("eval",))
         self.assertEqual(group_of(MORE, "pick"), ("pick",))
+        # It calls itself, and another one calls it.
+        self.assertEqual(group_of(MORE, "map"), ("map",))
+        self.assertEqual(group_of(MORE, "flip"), ("flip",))
+        self.assertEqual(group_of(MORE, "rev"), ("rev",))
 
     def test_programs_that_have_only_the_form(self):
         ring = program(
