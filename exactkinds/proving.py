@@ -55,6 +55,10 @@ class Proof:
         every = list(range(len(self.wants)))
         if not self._have_values(every):
             return self._refuted(every)
+        return self._ended()
+
+    def _ended(self):
+        """Return the cases that go on where there are values, up to the ends."""
         if self.ending.holds(self.heads, self.sheet):
             return ("end",)
         name = self._blocking_name()
@@ -92,7 +96,8 @@ class Proof:
         rows = []
         for maker, states in into(self.view.machine, self.sheet.states[name]):
             self.sheet.give_term(name, maker, states)
-            rows.append(self.cases())
+            # The step leads into the state that the name has already.
+            rows.append(self._ended())
             self.sheet.take_term(name)
         return ("steps", name, tuple(rows))
 
