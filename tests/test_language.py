@@ -200,6 +200,14 @@ class Language(unittest.TestCase):
                     for value in BUILTIN_VALUES:
                         self.assertTrue(method.name == "__init__" or not hasattr(value, method.name), method.name)
 
+    def test_no_name_is_a_method_and_an_attribute(self):
+        methods, stored = set(), set()
+        for _, tree in self.each_file():
+            for node in nodes_of(tree, ast.ClassDef):
+                methods.update(one.name for one in node.body if isinstance(one, ast.FunctionDef))
+            stored.update(one.attr for one in nodes_of(tree, ast.Attribute) if isinstance(one.ctx, ast.Store))
+        self.assertEqual(methods & stored, set())
+
     def test_views_and_sets_are_taken_at_once(self):
         for _, tree in self.each_file():
             for node in nodes_of(tree, ast.Call):
