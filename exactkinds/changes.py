@@ -2,7 +2,6 @@
 
 from exactkinds.indices import fitted
 from exactkinds.languages import vectors
-from exactkinds.pieces import context
 from exactkinds.programs import calls_of, function_of, names_asked
 from exactkinds.verdicts import Judge
 
@@ -41,22 +40,22 @@ def right_behind(table, machine, elder, right, newer):
 
 def region(table, machine, program, word):
     """Return the list of the pairs of a vector of a function and whether the function is right there, in order."""
-    judge = Judge(table, machine, program)
     function = function_of(program, word)
     # Most pieces are right at all vectors.
-    wrong = [piece for piece in judge.pieces_in(function) if not judge.is_right_at(function, piece, [])]
+    trials = Judge(table, machine, program).wrong_trials(function)
+    terms = [fitted([term for _, term in function[1]], trial.told[0]) for trial in trials]
     rows = []
     for vector in vectors(machine, names_asked(function), list(function[1])):
-        rows.append((vector, _is_right_at(judge, function, wrong, vector)))
+        rows.append((vector, _is_right_at(trials, terms, vector)))
     return rows
 
 
-def _is_right_at(judge, function, wrong, vector):
-    """Return whether none of the pieces is told wrong for values whose trees are a case of the vector."""
-    for piece in wrong:
-        params, _ = context(judge.table, function, piece[1])
-        terms = fitted([term for _, term in function[1]], params)
-        further = [(1 << state, terms[name]) for name, state in vector.items()]
-        if not judge.is_right_at(function, piece, further):
+def _is_right_at(trials, terms, vector):
+    """Return whether no trial is told wrong for values whose trees are a case of the vector.
+
+    The terms are, for each trial, those of the function's names.
+    """
+    for trial, told in zip(trials, terms):
+        if not trial.is_right_at([(1 << state, told[name]) for name, state in vector.items()]):
             return False
     return True

@@ -4,7 +4,7 @@ from exactkinds.indices import fitted, put
 from exactkinds.programs import clause_for, function_of, taken
 from exactkinds.telling import heads_of, told_body
 from exactkinds.values import demanded, index_of
-from exactkinds.verdicts import Judge
+from exactkinds.verdicts import Judge, Trial
 
 
 def told_index(table, program, word, clause, trees):
@@ -36,9 +36,8 @@ def finding(table, machine, program, word, piece):
 
 def right_at(table, machine, program, word, piece, vector):
     """Return whether a piece is told right for all values that belong to the cases of a vector."""
-    judge = Judge(table, machine, program)
-    further = [(1 << state, name) for name, state in vector.items()]
-    return judge.is_right_at(function_of(program, word), piece, further)
+    trial = Trial(Judge(table, machine, program), function_of(program, word), piece)
+    return trial.is_right_at([(1 << state, name) for name, state in vector.items()])
 
 
 def findings(table, machine, program, word):

@@ -22,32 +22,15 @@ class Judge:
         """Return the list of the pieces of a function."""
         return pieces_of(self.view, self.table, function)
 
-    def cases_of(self, function, piece, further):
-        """Return the cases of a piece in which further wants hold, with the fault that is found of them, if any."""
-        clause, skeleton = piece
-        told = context(self.table, function, skeleton)
-        wants = demand_wants(self.view, told[1]) + further
-        cases = Cases(self.view, free_domains(self.view, names_told(told)), wants)
-        # What is told of a clause presumes that there are cases.
-        if clause == -1 or cases.first_context([]) is None:
-            cases.spoil([], ())
-        else:
-            Ending(self.table, function, clause, skeleton, told).holds(self.heads, cases)
-        return cases
-
-    def is_right_at(self, function, piece, further):
-        """Return whether a piece is told right in all cases in which further wants hold."""
-        return self.cases_of(function, piece, further).fault is None
-
     def finding(self, function, piece):
         """Return values of a piece that are told wrong, or None if it is right."""
-        case = self.cases_of(function, piece, []).wrong_case()
+        trial = Trial(self, function, piece)
+        case = trial.cases([]).wrong_case()
         if case is None:
             return None
         if self.making is None:
             self.making = making_of(self.table)
-        _, skeleton = piece
-        return values_in(self.making, context(self.table, function, skeleton), skeleton, case)
+        return values_in(self.making, trial.told, trial.skeleton, case)
 
     def first_finding(self, function):
         """Return values of a function that are told wrong, or None if it is right."""
@@ -57,9 +40,42 @@ class Judge:
                 return found
         return None
 
+    def wrong_trials(self, function):
+        """Return the list of the trials of those pieces of a function that are not right."""
+        trials = [Trial(self, function, piece) for piece in self.pieces_in(function)]
+        return [trial for trial in trials if not trial.is_right_at([])]
+
     def is_right(self, function):
         """Return whether a function is right."""
         for piece in self.pieces_in(function):
-            if not self.is_right_at(function, piece, []):
+            if not Trial(self, function, piece).is_right_at([]):
                 return False
         return True
+
+
+class Trial:
+    """A piece that is tried, perhaps for some of its values alone; told is the context of its skeleton."""
+
+    def __init__(self, judge, function, piece):
+        clause, self.skeleton = piece
+        self.view = judge.view
+        self.heads = judge.heads
+        self.told = context(judge.table, function, self.skeleton)
+        self.wants = demand_wants(judge.view, self.told[1])
+        self.ending = None
+        if clause >= 0:
+            self.ending = Ending(judge.table, function, clause, self.skeleton, self.told)
+
+    def cases(self, further):
+        """Return the cases in which further wants hold, with a fault if the piece is told wrong in some."""
+        cases = Cases(self.view, free_domains(self.view, names_told(self.told)), self.wants + further)
+        # What is told of a clause presumes that there are cases.
+        if self.ending is None or cases.first_context([]) is None:
+            cases.spoil([], ())
+        else:
+            self.ending.holds(self.heads, cases)
+        return cases
+
+    def is_right_at(self, further):
+        """Return whether the piece is told right in all cases in which further wants hold."""
+        return self.cases(further).fault is None
