@@ -87,7 +87,8 @@ f(x) = x
             ("run at(Top(Zero), Nil) steps 10", "wrong demand at -1"),
             ("run head(Nil) steps 10", "wrong hole head -1"),
             ("run short(Cons(On, Nil)) steps 10", "wrong result short -1"),
-            ("run map(Zero) steps 10", "wrong demand map -1"), ("run map(Cons(On, On)) steps 10", "wrong demand map -1")])
+            ("run map(Zero) steps 10", "wrong demand map -1"),
+            ("run map(Cons(On, On)) steps 10", "wrong demand map -1")])
 
     def test_run_that_is_wrong_deep_in_a_body(self):
         self.asks(VECTOR_TEXT + """
@@ -157,8 +158,8 @@ ask(run) = holds(run)
 """
         with self.assertRaises(BadTable):
             answers(text.replace("maker ask", "maker index"))
-        text = text.replace("maker ask 1", "maker as 1").replace("right(ask(", "right(as(").replace("ask(run)", "ask(v)")
-        text = text.replace("holds(run)", "holds(v)")
+        text = text.replace("maker ask 1", "maker as 1").replace("right(ask(", "right(as(")
+        text = text.replace("ask(run)", "ask(v)").replace("holds(run)", "holds(v)")
         self.tells(text + "ask let\nask right ask\nask never ask0\nask holds never(as(let))\nask index run(index)\n"
                    "ask run ask(run(index)) steps 2\nask run ask0(run(index)) steps 4\n",
                    "let", "yes", "none", "yes", "right(as(let))", "right holds(run(index))", "right run(index)")
@@ -285,7 +286,8 @@ class Errors(Case):
                     "holds Nat(On)", "holds Nat(Zero)", "holds Nat(t(z))", "index x", "index Cons(On, x)", "index z",
                     "index Cons", "index Cons(On)", "index Cons(On, Nil, Nil)", "index On(On)", "index Nat", "index at",
                     "index at(On, On)", "index s(Zero)", "run at(Top(Zero)) steps 9",
-                    "run at(Top(Zero), Nil, Nil) steps 9", "run at(x, Nil) steps 9", "run at(Top(Zero), Cons(On)) steps 9",
+                    "run at(Top(Zero), Nil, Nil) steps 9", "run at(x, Nil) steps 9",
+                    "run at(Top(Zero), Cons(On)) steps 9",
                     "run at(Top(Zero), z) steps 9", "run at(Top(n), Nil) steps 9"):
             self.bad(BadJob, AT_TEXT + f"ask {row}\n")
             self.bad(BadJob, f"ask let\nask {row}\n{AT_TEXT}ask let\n")

@@ -18,7 +18,8 @@ from exactkinds.writing import write
 from tests.oracle import (
     ALL, AT, BALANCED_TEXT, VECTOR_TABLE, VECTOR_TEXT, all_values, asked_for, asked_trees, belongs, copying,
     function_in, random_program, told_by_hand, told_index_by_hand)
-from tests.samples import ALONE, BALANCED, DOUBLING, EVEN_ODD, GREAT, PARITY, SIX, SMALL, chain, fit, index_by_hand, random_table
+from tests.samples import (
+    ALONE, BALANCED, DOUBLING, EVEN_ODD, GREAT, PARITY, SIX, SMALL, chain, fit, index_by_hand, random_table)
 
 Z = ("z",)
 ALONE_START, BALANCED_START, TURNS_START, SIX_START, DOUBLING_START, PARITY_START = (

@@ -453,7 +453,8 @@ class MadeByHand(Case):
         # The names of the place have no states, or its family is there.
         self.refused(*self.with_tree(0, ("body", 0, ("never", 0))))
         self.refused(*self.with_tree(0, ("body", 0, ("states", "i0", (("never", 0), ("never", 0))))))
-        self.refused(*self.with_tree(0, ("body", 0, ("states", "i0", (("never", 0), ("steps", "i0", (("never", 0),)))))))
+        self.refused(*self.with_tree(0, ("body", 0, (
+            "states", "i0", (("never", 0), ("steps", "i0", (("never", 0),)))))))
         self.taken(*self.with_tree(0, ("body", 0, ("states", "i0", (
             ("steps", "i0", (("never", 0), ("steps", "i0.1", (("never", 0),)))), ("steps", "i0", (END,)))))))
 
@@ -683,7 +684,8 @@ dead(a, b) = a
         for other in (steps[1:], steps[:-1], steps + steps[:1], steps[::-1], list(steps)):
             self.refused(EVEN_ODD, program, ("let", ("machine", TURNS_MACHINE[1], other), ()))
         # A state that no tree reaches.
-        self.refused(EVEN_ODD, program, ("let", ("machine", TURNS_MACHINE[1] + ((),), steps + (("next", (2,), 2),)), ()))
+        more = ("machine", TURNS_MACHINE[1] + ((),), steps + (("next", (2,), 2),))
+        self.refused(EVEN_ODD, program, ("let", more, ()))
 
 
 class NotPapers(Case):
@@ -701,7 +703,8 @@ class NotPapers(Case):
             self.refused(VECTOR_TABLE, program, ("not", "bad", values))
         for word in ("no", "", None, 0, ("bad",), ["bad"], {}, True, "Cons", program[1][1]):
             self.refused(VECTOR_TABLE, program, ("not", word, (nil, on)))
-        for value in (("not", "bad"), ("not", "bad", (nil, on), ()), ["not", "bad", (nil, on)], ("Not", "bad", (nil, on)),
+        for value in (("not", "bad"), ("not", "bad", (nil, on), ()), ["not", "bad", (nil, on)],
+                      ("Not", "bad", (nil, on)),
                       ("let", "bad", (nil, on)), ("not", (nil, on), "bad"), ("bad", (nil, on))):
             self.refused(VECTOR_TABLE, program, value)
 

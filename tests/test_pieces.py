@@ -16,7 +16,7 @@ from tests.oracle import (
     ALL, AT, MORE, TURNS, TURNS_TABLE, TYPED, TYPED_TABLE, VECTOR_TABLE, all_values, asked_for, asked_trees, belongs,
     function_in, random_program)
 from tests.samples import (
-    BALANCED, EVEN_ODD, GREAT, PAIRS, PARITY, SMALL, filled, fit, index_by_hand, nx, pair, random_table)
+    BALANCED, EVEN_ODD, GREAT, PAIRS, PARITY, SMALL, fit, index_by_hand, nx, pair, random_table)
 
 Z = ("z",)
 
@@ -84,8 +84,7 @@ class Contexts(unittest.TestCase):
         self.tells(VECTOR_TABLE, function, (("Cons", "v0", ("Nil",)), "v1"), None)
         self.tells(VECTOR_TABLE, function, (("Cons", "v0", ("Cons", "v1", ("Nil",))), "v2"), (
             (s(s(Z)), Z), (("Bit", Z), ("Bit", Z), ("Vec", Z))))
-        # A name would have to stand in itself.
-        function = head(("Vec", "n"), ("Vec", s("n")))
+        # A part that is deeper than what is made of it.
         table = ("table", PAIRS, ("D",), (("C", (("D", "n"), ("D", nx("n"))), "D", nx("n")), ("E", (), "D", ("zero",))))
         function = head(("D", "n"), ("D", nx("n")))
         self.tells(table, function, (("C", "v0", "v1"), ("C", "v2", "v3")), (
@@ -118,7 +117,7 @@ class Contexts(unittest.TestCase):
             for _ in range(4):
                 function = rng.choice(random_program(rng, table, 1)[1])
                 rows = asked_for(table, function, values, 150)
-                for clause, skeleton in self.skeletons(rng, table, function):
+                for _, skeleton in self.skeletons(rng, table, function):
                     told = context(table, function, skeleton)
                     for given in rows:
                         if belongs(skeleton, given):
